@@ -1,0 +1,1 @@
+"""Huelists: places with lists of hues of their own."""

@@ -1,6 +1,6 @@
 """Webs, and lists, sizes and choices of them."""
 
-from huelists.errors import NoLists, NoNumber, NoWeb
+from huelists.errors import NoLists, NoNumber, NoSizes, NoWeb
 
 MOST_PLACES = 6
 MOST_HUES = 8
@@ -65,6 +65,17 @@ def check_lists(web, thing):
     """Refuse what is no web, then what is no lists of it."""
     if not are_lists(thing, web):
         raise NoLists("no lists of the web")
+
+
+def check_sizes(web, thing):
+    """Refuse what is no web, then what is no sizes of it."""
+    if not are_sizes(thing, web):
+        raise NoSizes("no sizes of the web")
+
+
+def all_near(web):
+    """The near places of each place, a list of tuples."""
+    return [near(web, place) for place in range(web[0])]
 
 
 def is_whole(thing):

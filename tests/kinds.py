@@ -81,3 +81,9 @@ BAD_LISTS = ODD + (
 
 # What is no place of a web of six, of whatever kind.
 BAD_PLACES = ODD + (6, 7, 10 ** 29, (), (0,), (1,), (0, 1), [1], {1: 1})
+
+# What is no sizes of TWO, of whatever kind; nor of a web of six places.
+BAD_SIZES = ODD + (
+    (), (1,), (1, 1, 1), [1, 1], {0: 1, 1: 1}, "11", 2, ((1, 1),), ((1,), (1,)), (1, 9), (9, 1), (1, -1), (-1, 1),
+    (1, BIG), (1, True), (False, 1), (None, 1), (1, "1"), ([1], 1), (1, (1,)), (1, {}),
+)

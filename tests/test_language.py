@@ -151,6 +151,24 @@ class Interface(unittest.TestCase):
             "is_choice": ["thing", "web", "lists"], "near": ["web", "place"], "sizes_of": ["web", "lists"],
         },
         "texts": {"show": ["web", "lists"], "read": ["text"]},
+        "choices": {
+            "first_choice": ["web", "lists"], "choices_many": ["web", "lists"],
+            "choice_at": ["web", "lists", "number"], "number_of": ["web", "lists", "choice"],
+            "begun_many": ["web", "lists", "begun"], "is_none_paper": ["thing", "web", "lists"],
+            "none_paper": ["web", "lists"],
+        },
+        "always": {
+            "always": ["web", "sizes"], "is_bar": ["thing", "web", "sizes"], "bar_for": ["web", "sizes"],
+            "least_length": ["web"], "hues_many": ["web"],
+        },
+        "orders": {
+            "is_order": ["thing", "web", "sizes"], "order_for": ["web", "sizes"], "core": ["web", "sizes"],
+            "choice_by": ["web", "lists", "order"], "narrowness": ["web"],
+        },
+        "terms": {
+            "terms": ["web"], "term": ["web", "powers"], "is_term_paper": ["thing", "web", "sizes"],
+            "term_for": ["web", "sizes"], "runs_many": ["web", "powers"],
+        },
     }
 
     def test_defined_where_listed(self):

@@ -3,12 +3,22 @@
 import copy
 import unittest
 
+from huelists.always import always, bar_for, hues_many, is_bar, least_length
+from huelists.choices import begun_many, choice_at, choices_many, first_choice, is_none_paper, none_paper, number_of
 from huelists.errors import HueError
+from huelists.orders import choice_by, core, is_order, narrowness, order_for
+from huelists.terms import is_term_paper, runs_many, term, term_for, terms
 from huelists.texts import read, show
 from huelists.webs import are_lists, are_sizes, is_choice, is_web, near, sizes_of
-from tests.kinds import ALL_TIES, BAD_LISTS, BAD_PLACES, BAD_WEBS, GOOD_WEBS, ODD, TWO
+from tests.kinds import ALL_TIES, BAD_LISTS, BAD_PLACES, BAD_SIZES, BAD_WEBS, GOOD_WEBS, ODD, TWO
 
 LISTS = ((0, 1), (1, 2))
+OF_A_WEB = (least_length, hues_many, narrowness, terms)
+OF_LISTS = (first_choice, choices_many, none_paper)
+OF_LISTS_AND_A_THING = (choice_at, number_of, begun_many, choice_by)
+OF_SIZES = (always, bar_for, order_for, core, term_for)
+OF_A_THING_AND_SIZES = (is_bar, is_order, is_term_paper)
+OF_POWERS = (term, runs_many)
 
 
 def asked(function, handed):
@@ -45,6 +55,35 @@ class Unchanged(unittest.TestCase):
             self.stays(near, thing, 0)
             self.stays(sizes_of, thing, LISTS)
             self.stays(show, thing, LISTS)
+
+    def test_later_stages_of_whatever_kind(self):
+        for thing in ODD + BAD_WEBS + BAD_LISTS + BAD_SIZES + GOOD_WEBS:
+            for web, lists, sizes in ((thing, LISTS, (1, 2)), (TWO, thing, thing), (TWO, LISTS, (1, 2))):
+                self.stays_in_later_stages(web, lists, sizes, thing)
+
+    def test_later_stages_of_what_is_due(self):
+        six = (6, ALL_TIES[:10])
+        papers = (none_paper(TWO, ((3,), (3,))), bar_for(TWO, (1, 1)), order_for(TWO, (1, 2)), term_for(TWO, (1, 2)))
+        for thing in papers + (0, (0, 1), (1, 0), ()):
+            self.stays_in_later_stages(TWO, LISTS, (1, 2), thing)
+            self.stays_in_later_stages(TWO, ((3,), (3,)), (1, 1), thing)
+        for thing in (0, tuple(range(6)), (5, 4, 3, 2, 1, 0), (0,) * 6):
+            self.stays_in_later_stages(six, ((1, 2, 3),) * 6, (3,) * 6, thing)
+
+    def stays_in_later_stages(self, web, lists, sizes, thing):
+        for function in OF_A_WEB:
+            self.stays(function, web)
+        for function in OF_LISTS:
+            self.stays(function, web, lists)
+        for function in OF_LISTS_AND_A_THING:
+            self.stays(function, web, lists, thing)
+        self.stays(is_none_paper, thing, web, lists)
+        for function in OF_SIZES:
+            self.stays(function, web, sizes)
+        for function in OF_A_THING_AND_SIZES:
+            self.stays(function, thing, web, sizes)
+        for function in OF_POWERS:
+            self.stays(function, web, thing)
 
     def test_of_what_is_due(self):
         six = ((6, ALL_TIES), ((1, 2, 3),) * 6)

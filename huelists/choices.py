@@ -1,6 +1,7 @@
 """Choices of a web and lists: the first, how many, by number, and papers that there is none."""
 
 from huelists.errors import NoChoice, NoNumber
+from huelists.groups import ways_many
 from huelists.webs import all_near, check_lists, is_choice, is_hue, is_place, is_tuple_of, is_whole
 
 BARE = "bare"
@@ -10,7 +11,7 @@ BY = "by"
 def first_choice(web, lists):
     """The first choice, as tuples are ordered; None where there is none."""
     check_lists(web, lists)
-    if count_choices(web, lists) == 0:
+    if ways_many(web[1], lists) == 0:
         return None
     return numbered_choice(web, lists, 0)
 
@@ -18,13 +19,13 @@ def first_choice(web, lists):
 def choices_many(web, lists):
     """How many choices there are."""
     check_lists(web, lists)
-    return count_choices(web, lists)
+    return ways_many(web[1], lists)
 
 
 def choice_at(web, lists, number):
     """The choice that has the number, from 0 on, as tuples are ordered."""
     check_lists(web, lists)
-    if not is_whole(number) or not 0 <= number < count_choices(web, lists):
+    if not is_whole(number) or not 0 <= number < ways_many(web[1], lists):
         raise NoNumber("no number of a choice")
     return numbered_choice(web, lists, number)
 
@@ -58,7 +59,7 @@ def is_none_paper(thing, web, lists):
 def none_paper(web, lists):
     """Some paper of none, None where there is a choice."""
     check_lists(web, lists)
-    if count_choices(web, lists) > 0:
+    if ways_many(web[1], lists) > 0:
         return None
     return paper_behind(all_near(web), dict(enumerate(lists)))
 
@@ -85,39 +86,7 @@ def numbered_choice(web, lists, number):
 def count_begun(web, lists, begun):
     """How many choices begin with the hues of begun."""
     narrowed = [tuple([one for one in hues if one == hue]) for hue, hues in zip(begun, lists)]
-    return count_choices(web, tuple(narrowed) + lists[len(begun):])
-
-
-def count_choices(web, lists):
-    """How many choices there are.
-
-    Hue by hue the places that take it are told, so that the choices need not be gone through one by one. A group of
-    places is a number that has a bit for each of them.
-    """
-    groups = untied_groups(web)
-    ways = {0: 1}
-    for hue in sorted({one for hues in lists for one in hues}):
-        havers = sum([1 << place for place, hues in enumerate(lists) if hue in hues])
-        ways = add_groups(ways, [group for group in groups if (group & havers) == group])
-    everywhere = (1 << len(lists)) - 1
-    return ways.get(everywhere, 0)
-
-
-def untied_groups(web):
-    """The groups of places of which no two are tied."""
-    places, ties = web
-    pairs = [(1 << a) | (1 << b) for a, b in ties]
-    return [group for group in range(1 << places) if not any([(group & pair) == pair for pair in pairs])]
-
-
-def add_groups(ways, groups):
-    """For each group of places with a hue the number of ways to it, when one of these groups takes a hue more."""
-    more = {}
-    for had, many in ways.items():
-        for group in groups:
-            if (had & group) == 0:
-                more[had | group] = more.get(had | group, 0) + many
-    return more
+    return ways_many(web[1], tuple(narrowed) + lists[len(begun):])
 
 
 def is_paper_behind(thing, nears, left):

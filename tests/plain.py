@@ -122,3 +122,74 @@ def is_paper(thing, web, lists, fixed):
     if len(thing) != 3 or len(thing[2]) != len(free):
         return False
     return all(is_paper(paper, web, lists, {**fixed, place: hue}) for hue, paper in zip(free, thing[2]))
+
+
+def meet(tie, other):
+    return bool(set(tie) & set(other))
+
+
+def tie_choices(web, lists, begun=()):
+    """All tie choices, as tuples are ordered."""
+    at = len(begun)
+    if at == len(web[1]):
+        yield begun
+        return
+    barred = {hue for hue, tie in zip(begun, web[1]) if meet(tie, web[1][at])}
+    for hue in lists[at]:
+        if hue not in barred:
+            yield from tie_choices(web, lists, begun + (hue,))
+
+
+def some_tie_lists(web, chance, hues=5, longest=4, shortest=0):
+    """Tie lists of the web: of so many hues in all, each of so many at least and at most."""
+    sizes = [min(hues, chance.randint(shortest, longest)) for tie in web[1]]
+    return tuple(tuple(sorted(chance.sample(range(hues), size))) for size in sizes)
+
+
+def pieces(web):
+    """The pieces, each a rising tuple, by their least places."""
+    left, found = set(range(web[0])), []
+    while left:
+        piece = {min(left)}
+        while True:
+            wider = piece.union(*(tied(web, place) for place in piece))
+            if wider == piece:
+                break
+            piece = wider
+        found.append(tuple(sorted(piece)))
+        left -= piece
+    return found
+
+
+def first_parts(web):
+    """Each way to part the places in two, no two of one part tied, the least of each piece in the first."""
+    found = []
+    leasts = {piece[0] for piece in pieces(web)}
+    for sides in product((0, 1), repeat=web[0]):
+        if all(sides[a] != sides[b] for a, b in web[1]) and not any(sides[place] for place in leasts):
+            found.append(tuple(place for place in range(web[0]) if sides[place] == 0))
+    return found
+
+
+def two_sided_webs(many, seed, least=1):
+    """So many two-sided webs, the same each time, whose parts lie anyhow."""
+    chance = random.Random(seed)
+    webs = []
+    for number in range(many):
+        places = least + number % (7 - least)
+        sides = [chance.randint(0, 1) for place in range(places)]
+        able = [(a, b) for a, b in pairs(places) if sides[a] != sides[b]]
+        ties = chance.sample(able, chance.choice((len(able), chance.randint(0, len(able)))))
+        webs.append((places, tuple(sorted(ties))))
+    return webs
+
+
+def goes_round(web, run):
+    """Whether places, one behind the other by ties so run, lead back to the first: those with no way out are struck."""
+    ways = {(a, b) if way == 1 else (b, a) for (a, b), way in zip(web[1], run)}
+    left = set(range(web[0]))
+    while True:
+        ends = {place for place in left if not any(a == place and b in left for a, b in ways)}
+        if not ends:
+            return bool(left)
+        left -= ends

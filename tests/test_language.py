@@ -169,6 +169,16 @@ class Interface(unittest.TestCase):
             "terms": ["web"], "term": ["web", "powers"], "is_term_paper": ["thing", "web", "sizes"],
             "term_for": ["web", "sizes"], "runs_many": ["web", "powers"],
         },
+        "tielists": {
+            "are_tie_lists": ["thing", "web"], "is_tie_choice": ["thing", "web", "lists"],
+            "first_tie_choice": ["web", "lists"], "tie_choices_many": ["web", "lists"], "width": ["web"],
+            "first_part": ["web"],
+        },
+        "stable": {
+            "is_stable": ["thing", "web", "ranks", "some"], "stable_ones": ["web", "ranks", "some"],
+            "long_choice": ["web", "lists"],
+        },
+        "counts": {"powers_of": ["web"], "count_at": ["web", "q"], "no_rounds_many": ["web"]},
     }
 
     def test_defined_where_listed(self):

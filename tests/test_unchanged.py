@@ -5,20 +5,25 @@ import unittest
 
 from huelists.always import always, bar_for, hues_many, is_bar, least_length
 from huelists.choices import begun_many, choice_at, choices_many, first_choice, is_none_paper, none_paper, number_of
+from huelists.counts import count_at, no_rounds_many, powers_of
 from huelists.errors import HueError
 from huelists.orders import choice_by, core, is_order, narrowness, order_for
+from huelists.stable import is_stable, long_choice, stable_ones
 from huelists.terms import is_term_paper, runs_many, term, term_for, terms
 from huelists.texts import read, show
+from huelists.tielists import are_tie_lists, first_part, first_tie_choice, is_tie_choice, tie_choices_many, width
 from huelists.webs import are_lists, are_sizes, is_choice, is_web, near, sizes_of
 from tests.kinds import ALL_TIES, BAD_LISTS, BAD_PLACES, BAD_SIZES, BAD_WEBS, GOOD_WEBS, ODD, TWO
 
 LISTS = ((0, 1), (1, 2))
-OF_A_WEB = (least_length, hues_many, narrowness, terms)
+OF_A_WEB = (least_length, hues_many, narrowness, terms, width, first_part, powers_of, no_rounds_many)
 OF_LISTS = (first_choice, choices_many, none_paper)
 OF_LISTS_AND_A_THING = (choice_at, number_of, begun_many, choice_by)
 OF_SIZES = (always, bar_for, order_for, core, term_for)
 OF_A_THING_AND_SIZES = (is_bar, is_order, is_term_paper)
-OF_POWERS = (term, runs_many)
+OF_A_WEB_AND_A_THING = (term, runs_many, count_at)
+OF_TIE_LISTS = (first_tie_choice, tie_choices_many, long_choice)
+TIE_LISTS = ((3, 5),)
 
 
 def asked(function, handed):
@@ -82,8 +87,29 @@ class Unchanged(unittest.TestCase):
             self.stays(function, web, sizes)
         for function in OF_A_THING_AND_SIZES:
             self.stays(function, thing, web, sizes)
-        for function in OF_POWERS:
+        for function in OF_A_WEB_AND_A_THING:
             self.stays(function, web, thing)
+
+    def test_ties_of_whatever_kind(self):
+        for thing in ODD + BAD_WEBS + BAD_LISTS + GOOD_WEBS:
+            self.stays_with_ties(thing, TIE_LISTS, (7,), (0,), (3,))
+            self.stays_with_ties(TWO, thing, thing, (0,), (3,))
+            self.stays_with_ties(TWO, TIE_LISTS, (7,), thing, thing)
+
+    def test_ties_of_what_is_due(self):
+        self.stays_with_ties(TWO, TIE_LISTS, (7,), (0,), (3,))
+        self.stays_with_ties(TWO, TIE_LISTS, (7,), (0,), (0,))
+        ring = (4, ((0, 1), (0, 3), (1, 2), (2, 3)))
+        self.stays_with_ties(ring, ((0, 1), (1, 2), (0, 2), (0, 1)), (0, 1, 1, 0), (0, 1, 2), (0, 1, 2, 0))
+        self.stays_with_ties((6, ALL_TIES), ((1, 2, 3),) * 15, tuple(range(15)), (3, 4), ())
+
+    def stays_with_ties(self, web, lists, ranks, some, thing):
+        self.stays(are_tie_lists, lists, web)
+        self.stays(is_tie_choice, thing, web, lists)
+        for function in OF_TIE_LISTS:
+            self.stays(function, web, lists)
+        self.stays(is_stable, thing, web, ranks, some)
+        self.stays(stable_ones, web, ranks, some)
 
     def test_of_what_is_due(self):
         six = ((6, ALL_TIES), ((1, 2, 3),) * 6)

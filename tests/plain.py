@@ -193,3 +193,48 @@ def goes_round(web, run):
         if not ends:
             return bool(left)
         left -= ends
+
+
+def named_lists(places, size, lists=()):
+    """All lists of this size, each hue no greater than one more than the greatest ahead: tried out hue by hue."""
+    if len(lists) == places:
+        yield lists
+        return
+    for hues in combinations(range(places * size), size):
+        greatest = max((hue for row in lists for hue in row), default=-1)
+        for hue in hues:
+            if hue > greatest + 1:
+                break
+            greatest = max(greatest, hue)
+        else:
+            yield from named_lists(places, size, lists + (hues,))
+
+
+def rings(web):
+    """Each ring, as the set of its ties."""
+    found = set()
+    for many in range(3, web[0] + 1):
+        for row in permutations(range(web[0]), many):
+            if row[0] == min(row):
+                ties = {tuple(sorted(tie)) for tie in zip(row, row[1:] + row[:1])}
+                if ties <= set(web[1]):
+                    found.add(frozenset(ties))
+    return found
+
+
+def blocks(web):
+    """The blocks, rising, each tie with all that some ring has with it."""
+    all_rings = rings(web)
+    found = {(place,) for place in range(web[0]) if not tied(web, place)}
+    for tie in web[1]:
+        together = {tie}.union(*(ring for ring in all_rings if tie in ring))
+        found.add(tuple(sorted({place for other in together for place in other})))
+    return sorted(found)
+
+
+def is_plain_block(web, block):
+    """Whether all places of the block are tied, or a ring of an odd number has all its places and ties."""
+    within = {tie for tie in web[1] if set(tie) <= set(block)}
+    if within == {tie for tie in combinations(block, 2)}:
+        return True
+    return len(block) % 2 == 1 and frozenset(within) in rings(web)

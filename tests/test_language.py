@@ -113,6 +113,15 @@ class Language(unittest.TestCase):
                     self.assertFalse(hasattr(builtins, name), (path.name, name))
                     self.assertRegex(name, r"^[A-Za-z][A-Za-z0-9_]*$")
 
+    def test_no_local_name_of_an_import_or_a_class(self):
+        for path, tree in self.trees():
+            outer = {alias.name for node in tree.body if isinstance(node, ast.ImportFrom) for alias in node.names}
+            outer |= {node.name for node in tree.body if isinstance(node, ast.ClassDef)}
+            inner = {node.arg for node in ast.walk(tree) if isinstance(node, ast.arg)}
+            inner |= {node.id for node in ast.walk(tree)
+                      if isinstance(node, ast.Name) and isinstance(node.ctx, ast.Store)}
+            self.assertEqual(outer & inner, set(), path.name)
+
     def test_builtins_and_methods(self):
         for path, tree in self.trees():
             bound = set(bound_names(tree))
@@ -179,6 +188,15 @@ class Interface(unittest.TestCase):
             "long_choice": ["web", "lists"],
         },
         "counts": {"powers_of": ["web"], "count_at": ["web", "q"], "no_rounds_many": ["web"]},
+        "fewest": {"fewest": ["web", "size"], "fewest_lists": ["web", "size"]},
+        "changes": {
+            "taken": ["web", "lists", "place", "hue"], "named": ["web", "lists", "names"], "pieces": ["web"],
+            "without": ["web", "lists", "place"], "sure": ["web", "lists"],
+        },
+        "blocks": {
+            "blocks": ["web"], "plain_blocks": ["web"], "near_sizes": ["web"], "always_near": ["web"],
+            "near_bar": ["web"],
+        },
     }
 
     def test_defined_where_listed(self):
@@ -190,6 +208,15 @@ class Interface(unittest.TestCase):
             }
             for function, arguments in functions.items():
                 self.assertEqual(found[function], arguments)
+
+    def test_desk_has_its_method_in_its_body(self):
+        tree = ast.parse((PACKAGE / "desk.py").read_text())
+        desk = [node for node in tree.body if isinstance(node, ast.ClassDef) and node.name == "Desk"][0]
+        found = {
+            node.name: [arg.arg for arg in node.args.args] for node in desk.body if isinstance(node, ast.FunctionDef)
+        }
+        self.assertEqual(found["say"], ["self", "line"])
+        self.assertEqual(found["__init__"], ["self"])
 
 
 if __name__ == "__main__":

@@ -5,8 +5,11 @@ import time
 import unittest
 
 from huelists.always import always, bar_for, hues_many, is_bar, least_length
+from huelists.blocks import always_near, blocks, near_bar, near_sizes, plain_blocks
+from huelists.changes import named, pieces, sure, taken, without
 from huelists.choices import begun_many, choice_at, choices_many, first_choice, is_none_paper, none_paper, number_of
 from huelists.counts import count_at, no_rounds_many, powers_of
+from huelists.fewest import fewest, fewest_lists
 from huelists.orders import choice_by, core, is_order, narrowness, order_for
 from huelists.stable import is_stable, long_choice, stable_ones
 from huelists.terms import is_term_paper, runs_many, term, term_for, terms
@@ -97,6 +100,23 @@ class Soon(unittest.TestCase):
             for function in (width, first_part, powers_of, no_rounds_many):
                 self.ask(function, web)
             self.ask(count_at, web, -BIG)
+
+    def test_fewest_of_four_places(self):
+        for web in plain.all_webs(4)[::3] + [(4, plain.pairs(4))]:
+            for size in (1, 2):
+                self.ask(fewest, web, size)
+                self.ask(fewest_lists, web, size)
+
+    def test_changes_and_blocks_of_six_places(self):
+        for web in [(6, ()), (6, ALL_TIES)] + plain.some_webs(60, 81, least=6):
+            for function in (pieces, blocks, plain_blocks, near_sizes, always_near, near_bar):
+                self.ask(function, web)
+            for lists in (EIGHTS, APART, tuple(tuple(range(many + 1)) for many in range(6))) + BARRED:
+                self.ask(sure, web, lists)
+                self.ask(without, web, lists, 3)
+                if 0 in lists[2]:
+                    self.ask(taken, web, lists, 2, 0)
+                self.ask(named, web, lists, tuple(range(99, 99 - 1 - max(map(max, filter(None, lists))), -1)))
 
     def test_sizes_of_five_places(self):
         for web in plain.all_webs(5)[::5]:

@@ -4,9 +4,13 @@ import copy
 import unittest
 
 from huelists.always import always, bar_for, hues_many, is_bar, least_length
+from huelists.blocks import always_near, blocks, near_bar, near_sizes, plain_blocks
+from huelists.changes import named, pieces, sure, taken, without
 from huelists.choices import begun_many, choice_at, choices_many, first_choice, is_none_paper, none_paper, number_of
 from huelists.counts import count_at, no_rounds_many, powers_of
+from huelists.desk import Desk
 from huelists.errors import HueError
+from huelists.fewest import fewest, fewest_lists
 from huelists.orders import choice_by, core, is_order, narrowness, order_for
 from huelists.stable import is_stable, long_choice, stable_ones
 from huelists.terms import is_term_paper, runs_many, term, term_for, terms
@@ -16,12 +20,15 @@ from huelists.webs import are_lists, are_sizes, is_choice, is_web, near, sizes_o
 from tests.kinds import ALL_TIES, BAD_LISTS, BAD_PLACES, BAD_SIZES, BAD_WEBS, GOOD_WEBS, ODD, TWO
 
 LISTS = ((0, 1), (1, 2))
-OF_A_WEB = (least_length, hues_many, narrowness, terms, width, first_part, powers_of, no_rounds_many)
-OF_LISTS = (first_choice, choices_many, none_paper)
-OF_LISTS_AND_A_THING = (choice_at, number_of, begun_many, choice_by)
+OF_A_WEB = (
+    least_length, hues_many, narrowness, terms, width, first_part, powers_of, no_rounds_many, pieces, blocks,
+    plain_blocks, near_sizes, always_near, near_bar,
+)
+OF_LISTS = (first_choice, choices_many, none_paper, sure)
+OF_LISTS_AND_A_THING = (choice_at, number_of, begun_many, choice_by, named, without)
 OF_SIZES = (always, bar_for, order_for, core, term_for)
 OF_A_THING_AND_SIZES = (is_bar, is_order, is_term_paper)
-OF_A_WEB_AND_A_THING = (term, runs_many, count_at)
+OF_A_WEB_AND_A_THING = (term, runs_many, count_at, fewest, fewest_lists)
 OF_TIE_LISTS = (first_tie_choice, tie_choices_many, long_choice)
 TIE_LISTS = ((3, 5),)
 
@@ -82,6 +89,8 @@ class Unchanged(unittest.TestCase):
             self.stays(function, web, lists)
         for function in OF_LISTS_AND_A_THING:
             self.stays(function, web, lists, thing)
+        self.stays(taken, web, lists, thing, thing)
+        self.stays(taken, web, lists, 0, thing)
         self.stays(is_none_paper, thing, web, lists)
         for function in OF_SIZES:
             self.stays(function, web, sizes)
@@ -110,6 +119,13 @@ class Unchanged(unittest.TestCase):
             self.stays(function, web, lists)
         self.stays(is_stable, thing, web, ranks, some)
         self.stays(stable_ones, web, ranks, some)
+
+    def test_what_a_desk_is_told(self):
+        for thing in ODD + BAD_WEBS + BAD_LISTS + ("web", "web 3", "tie 0 1", "cut 0 1", "list 0 1", "take 0 1", "many"):
+            ahead = copy.deepcopy(thing)
+            told = [asked(Desk().say, (thing,)) for desk in range(2)]
+            self.assertEqual(repr(thing), repr(ahead))
+            self.assertEqual(repr(told[0]), repr(told[1]))
 
     def test_of_what_is_due(self):
         six = ((6, ALL_TIES), ((1, 2, 3),) * 6)

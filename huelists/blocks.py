@@ -27,13 +27,11 @@ def near_sizes(web):
 
 def always_near(web):
     """Whether there always is a choice with the near sizes."""
-    check_web(web)
     return first_plain_piece(web) is None
 
 
 def near_bar(web):
     """Some lists of the near sizes that have no choice, None where there always is one."""
-    check_web(web)
     piece = first_plain_piece(web)
     if piece is None:
         return None

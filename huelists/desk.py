@@ -141,7 +141,7 @@ def read_line(line):
     word, *rest = line.split(" ")
     if not rest and (word == BACK or word in ANSWERS):
         return word, []
-    if not rest or word not in KINDS or len(rest) != len(KINDS[word]):
+    if word not in KINDS or len(rest) != len(KINDS[word]):
         raise NoLine("no line that a desk is told")
     handed = [read_word(kind, part) for kind, part in zip(KINDS[word], rest)]
     if None in handed:

@@ -17,10 +17,10 @@ def ways_many(pairs, lists):
 
 
 def unpaired_groups(pairs, many):
-    """The groups of so many things that have no pair within."""
+    """The groups of so many things that have no pair within; each pair has its lesser thing first."""
     barred = [0] * many
     for a, b in pairs:
-        barred[a] |= 1 << b
+        # Greater things come into a group behind lesser ones, so only these bar one.
         barred[b] |= 1 << a
     groups = [0]
     for thing in range(many):

@@ -21,7 +21,8 @@ THIRTY_ONE = "1" + "0" * 30
 NO_LINES = (
     "", " ", "  ", "\n", "\t", "ok", "none", "yes", "no", "webs", "we", "undo", "0", "1", "-", ":",
     "web 0", "web 7", "web 8", "web 10", "web 60", "web -1", "web 03", "web 00", "web +3", "web 3.0", "web three",
-    "web N", "web " + THIRTY, "web " + THIRTY_ONE, "web 1 2", "web 3 3", "web 3 0-1", "web ", " web", "web  3", "web 3 ",
+    "web N", "web " + THIRTY, "web " + THIRTY_ONE, "web 1 2", "web 3 3", "web 3 0-1", "web ", " web", "web  3",
+    "web 3 ",
     " web 3", "Web", "WEB", "Web 3", "web\t3", "web\n", "web 3\n", "web,3", "web3", "web -", "web 1,2",
     "tie", "tie 0", "tie 0 1 2", "tie 0  1", "tie  0 1", "tie 0 1 ", " tie 0 1", "Tie 0 1", "tIE 0 1", "tie 0-1",
     "tie 0,1", "tie 00 1", "tie 0 01", "tie 0 -1", "tie -1 0", "tie -0 1", "tie a b", "tie A B", "tie 0 " + THIRTY_ONE,

@@ -121,7 +121,8 @@ class Unchanged(unittest.TestCase):
         self.stays(stable_ones, web, ranks, some)
 
     def test_what_a_desk_is_told(self):
-        for thing in ODD + BAD_WEBS + BAD_LISTS + ("web", "web 3", "tie 0 1", "cut 0 1", "list 0 1", "take 0 1", "many"):
+        lines = ("web", "web 3", "tie 0 1", "cut 0 1", "list 0 1", "take 0 1", "back", "many")
+        for thing in ODD + BAD_WEBS + BAD_LISTS + lines:
             ahead = copy.deepcopy(thing)
             told = [asked(Desk().say, (thing,)) for desk in range(2)]
             self.assertEqual(repr(thing), repr(ahead))

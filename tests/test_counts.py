@@ -128,7 +128,7 @@ class Worth(unittest.TestCase):
 class NoRounds(unittest.TestCase):
     def test_all_runs_gone_through(self):
         webs = plain.all_webs(4) + plain.some_webs(60, 73, most_ties=8)
-        for web in webs + [RING_OF_FOUR, RING_OF_FIVE, RING_OF_SIX, (5, plain.pairs(5))]:
+        for web in webs + [RING_OF_FOUR, RING_OF_FIVE, RING_OF_SIX, (5, plain.pairs(5)), FULL]:
             all_runs = product((1, -1), repeat=len(web[1]))
             due = sum(not plain.goes_round(web, run) for run in all_runs)
             told = no_rounds_many(web)
